@@ -1,0 +1,1 @@
+"""Braceloops: products of rows of words, also if they stand for very many words."""
