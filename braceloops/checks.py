@@ -1,6 +1,6 @@
 """The checks of words and integers that several modules share."""
 
-from braceloops.errors import InvalidIndex, InvalidWord
+from braceloops.errors import InvalidIndex, InvalidSize, InvalidWord
 
 
 def is_word(value):
@@ -25,3 +25,9 @@ def check_index(index, least, greatest):
     """Raise InvalidIndex if a value is not an integer from least to greatest."""
     if not is_integer(index) or index < least or index > greatest:
         raise InvalidIndex()
+
+
+def check_size(size):
+    """Raise InvalidSize if a value is not an integer from 1 on."""
+    if not is_integer(size) or size < 1:
+        raise InvalidSize()

@@ -71,24 +71,31 @@ def step_between(word, other):
     return (word[length:], other[length:])
 
 
+def steps_of(row, last, first):
+    """Return the list of the steps from each word of a row + last to the next one + first.
+
+    The item with a number is the step to the word with that number; the item 0 is not used.
+    """
+    steps = [None]
+    for place in range(1, len(row)):
+        steps.append(step_between(row[place - 1] + last, row[place] + first))
+    return steps
+
+
 def levels_of(product):
     """Return a tuple (block, steps) for each factor, the last factor first.
 
     The factors behind a factor have block words together. So a factor goes on to its
     next word just before each multiple of block that the factors in front of it leave
-    to it. The item of steps with the number of that word is the step made there; the
-    item 0 is not used.
+    to it. The item of steps with the number of that word is the step made there.
     """
     levels = []
     block = 1
     first = ""
     last = ""
     for row in product[::-1]:
-        steps = [None]
-        for place in range(1, len(row)):
-            # The factors behind go from their last words back to their first ones.
-            steps.append(step_between(row[place - 1] + last, row[place] + first))
-        levels.append((block, steps))
+        # The factors behind go from their last words back to their first ones.
+        levels.append((block, steps_of(row, last, first)))
         block = block * len(row)
         first = row[0] + first
         last = row[-1] + last

@@ -1,9 +1,10 @@
 """The interface: names, arguments, and the files in which they are defined; [1] and [2]."""
 
+import copy
 import inspect
 import unittest
 
-from braceloops import far, rows, steps
+from braceloops import far, finest, occurrences, order, rows, sizes, steps
 
 INTERFACE = {
     rows: {
@@ -19,8 +20,26 @@ INTERFACE = {
         "first_difference": ["product", "other"], "same_words": ["product", "other"],
         "commute": ["row", "other"],
     },
+    sizes: {
+        "right_sizes": ["row"], "split": ["row", "size"], "why_not": ["row", "size"],
+    },
+    finest: {
+        "is_run": ["row"], "finest": ["product"], "finest_sizes": ["product"],
+        "count_finest": ["product"], "is_right_size": ["product", "size"],
+        "count_right_sizes": ["product"], "right_quotient": ["row", "other"],
+        "left_quotient": ["row", "other"],
+    },
+    order: {
+        "is_ascending": ["product"], "first_drop": ["product"], "place_of": ["product", "word"],
+    },
+    occurrences: {
+        "count_of": ["product", "word"], "nth_place": ["product", "word", "index"],
+        "places": ["product", "word"], "has_double": ["product"], "double": ["product"],
+    },
 }
 PAIRS = (("a", "b"), ("c", "d"))
+LETTERS = (("x", "", "x"), ("x", ""))
+WORDS = ("ac", "ad", "bc", "bd")
 # What each function is called with, and its answer.
 CALLS = [
     (rows.is_row, {"value": ("a",)}, True),
@@ -36,6 +55,25 @@ CALLS = [
     (steps.first_difference, {"product": PAIRS, "other": (("ac",),)}, 1),
     (steps.same_words, {"product": PAIRS, "other": (("ac",),)}, False),
     (steps.commute, {"row": ("a", "b"), "other": ("a", "b")}, True),
+    (sizes.right_sizes, {"row": WORDS}, [1, 2, 4]),
+    (sizes.split, {"row": WORDS, "size": 2}, PAIRS),
+    (sizes.why_not, {"row": WORDS + WORDS[:2], "size": 3}, (4, 1)),
+    (finest.is_run, {"row": WORDS}, False),
+    (finest.finest, {"product": (WORDS,)}, PAIRS),
+    (finest.finest_sizes, {"product": PAIRS}, [2, 2]),
+    (finest.count_finest, {"product": PAIRS}, 1),
+    (finest.is_right_size, {"product": PAIRS, "size": 2}, True),
+    (finest.count_right_sizes, {"product": PAIRS}, 3),
+    (finest.right_quotient, {"row": WORDS, "other": ("c", "d")}, ("a", "b")),
+    (finest.left_quotient, {"row": WORDS, "other": ("a", "b")}, ("c", "d")),
+    (order.is_ascending, {"product": PAIRS}, True),
+    (order.first_drop, {"product": LETTERS}, 1),
+    (order.place_of, {"product": PAIRS, "word": "bc"}, 2),
+    (occurrences.count_of, {"product": LETTERS, "word": "x"}, 3),
+    (occurrences.nth_place, {"product": LETTERS, "word": "x", "index": 1}, 2),
+    (occurrences.places, {"product": LETTERS, "word": "x"}, [1, 2, 5]),
+    (occurrences.has_double, {"product": LETTERS}, True),
+    (occurrences.double, {"product": (("a", "", "b"), ("", "a"))}, (0, 3)),
 ]
 
 
@@ -70,11 +108,27 @@ class Interface(unittest.TestCase):
             with self.subTest(call.__name__):
                 self.assertEqual(answer(call, [], named), expected)
 
+    def test_every_returned_list_is_a_new_one(self):
+        for call, named, expected in CALLS:
+            if isinstance(expected, list) and not inspect.isgeneratorfunction(call):
+                with self.subTest(call.__name__):
+                    found = call(**named)
+                    self.assertIsNot(call(**named), found)
+                    found.append(0)
+                    self.assertEqual(call(**named), expected)
+
     def test_the_table_of_calls_has_every_function(self):
         names = [name for functions in INTERFACE.values() for name in functions]
         self.assertEqual([call.__name__ for call, _, _ in CALLS], names)
 
     def test_arguments_are_not_changed(self):
+        for call, named, _ in CALLS:
+            with self.subTest(call.__name__):
+                before = copy.deepcopy(named)
+                answer(call, [], named)
+                self.assertEqual(named, before)
+
+    def test_wrong_arguments_are_not_changed(self):
         wrong = ["a", ["b"]]
         for call, named, _ in CALLS:
             for name in named:

@@ -1,6 +1,5 @@
 """[6], [8] and [12]: steps, differences, and products with the same words."""
 
-import os.path
 import random
 
 from braceloops.errors import InvalidIndex, InvalidProduct, InvalidRow, InvalidWord
@@ -8,17 +7,9 @@ from braceloops.far import count_words
 from braceloops.rows import multiply
 from braceloops.steps import commute, first_difference, same_words, step, step_at
 from tests.helpers import (
-    LARGE, LARGE_COUNT, NO_INTEGERS, WRONG_PRODUCTS, WRONG_ROWS, WRONG_WORDS, ErrorCase,
-    changed, coded, nested_loops,
+    EMPTY_WORDS, LARGE, LARGE_COUNT, NO_INTEGERS, WRONG_PRODUCTS, WRONG_ROWS, WRONG_WORDS, ErrorCase,
+    changed, coded, nested_loops, plain_step, random_product, random_row, run_factors,
 )
-
-EMPTY_WORDS = (("",) * 60,) * 40
-
-
-def plain_step(word, other):
-    """Return a step with the common beginning as os.path finds it."""
-    length = len(os.path.commonprefix([word, other]))
-    return (word[length:], other[length:])
 
 
 def plain_difference(product, other):
@@ -28,32 +19,6 @@ def plain_difference(product, other):
         if word != another:
             return number
     return None if len(words) == len(others) else min(len(words), len(others))
-
-
-def run_factors(chance, size):
-    """Return factors that together have the words empty, x, xx, ... size in number."""
-    factors, stride = [], 1
-    while size > 1:
-        many = chance.choice([many for many in range(2, size + 1) if size % many == 0])
-        factors.append(tuple("x" * (stride * place) for place in range(many)))
-        stride, size = stride * many, size // many
-    return tuple(factors[::-1]) or (("",),)
-
-
-def random_row(chance):
-    """Return a row that often is a run, or a run with one other word."""
-    many = chance.randint(1, 5)
-    if chance.random() < 0.4:
-        return tuple(chance.choice(["", "x", "y"]) for _ in range(many))
-    stride = chance.choice(["", "x", "xx"])
-    words = [stride * place for place in range(many)]
-    if chance.random() < 0.2:
-        words[chance.randrange(many)] += "x"
-    return tuple(words)
-
-
-def random_product(chance):
-    return tuple(random_row(chance) for _ in range(chance.randint(1, 4)))
 
 
 class Step(ErrorCase):
