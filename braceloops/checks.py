@@ -27,6 +27,12 @@ def check_index(index, least, greatest):
         raise InvalidIndex()
 
 
+def check_most(most):
+    """Raise InvalidIndex if a value is not an integer from 1 on."""
+    if not is_integer(most) or most < 1:
+        raise InvalidIndex()
+
+
 def check_size(size):
     """Raise InvalidSize if a value is not an integer from 1 on."""
     if not is_integer(size) or size < 1:

@@ -28,13 +28,18 @@ def place_of(product, word):
     """Return the number of a word in an ascending product, or None."""
     check_product(product)
     check_word(word)
-    drop = first_drop(product)
-    if drop is not None:
-        raise NotAscending(drop)
+    check_ascending(product)
     number = first_from(product, word)
     if number < size_of(product) and word_at(product, number) == word:
         return number
     return None
+
+
+def check_ascending(product):
+    """Raise NotAscending if a product is not ascending."""
+    drop = first_drop(product)
+    if drop is not None:
+        raise NotAscending(drop)
 
 
 def first_from(product, word):

@@ -50,6 +50,13 @@ def all_words(product):
     return tuple(words)
 
 
+def words_of_both(row, other):
+    """Return the words of a row followed by those of another one, if they are not too many."""
+    if len(row) + len(other) > MOST_WORDS:
+        raise TooMany(MOST_WORDS)
+    return row + other
+
+
 def multiply(row, *more):
     """Return the product of some rows as a row."""
     check_row(row)

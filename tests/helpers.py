@@ -29,6 +29,12 @@ WRONG_PRODUCTS = [
     (), [], [("a",)], {("a",)}, {("a",): 1}, iter((("a",),)), ("a",), ("a", "b"), ((("a",),),),
 ] + [(("a",), row) for row in WRONG_ROWS] + [(row, ("a",)) for row in WRONG_ROWS]
 
+WRONG_TEXTS = [value for value in WRONG_WORDS if not isinstance(value, str)] + [
+    (), [], ("a", "b"), [""], b"", b"{a,b}", ("{a,b}",), {"a", "b"}, iter("ab"), range(2), tuple,
+    "A", "{A,b}", "a b", "{a, b}", " ", "\n", "a\n", "{a,b}\n", "1", "{1,2}", "{a..c}", "$a", "a-b",
+    "\\{a,b}", "(a,b)", "[ab]", "a*", "\u00e9", "{\u00e9,a}", "\u0430", "\ud800", "\x00",
+]
+
 NO_INTEGERS = [None, True, False, "0", "1", "", 0.0, 1.0, b"1", (0,), [1], object(), Endless()]
 
 
@@ -55,6 +61,14 @@ def changed(product, factor, place, word):
 def nested_loops(product):
     """Return the words of a product as the nested loops of a shell make them."""
     return ["".join(words) for words in itertools.product(*product)]
+
+
+def plain_drop(words):
+    """Return the least number of a word that is not greater than the one before it, or None."""
+    for at in range(1, len(words)):
+        if not words[at] > words[at - 1]:
+            return at
+    return None
 
 
 def common_beginning(words):

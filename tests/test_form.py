@@ -22,6 +22,11 @@ BUILTINS = set("""
 """.split())
 # Another test can make doctest keep an answer among the builtins, as the name _.
 NAMES_OF_PYTHON = set(dir(builtins)) - {"_"}
+OWN_METHODS = {
+    "__init__", "__eq__", "__len__", "__call__", "__iter__", "__add__", "__mul__", "__floordiv__",
+    "__contains__", "__getitem__",
+}
+DECORATORS = {"property", "staticmethod", "classmethod"}
 BARRED = (ast.AsyncFunctionDef, ast.AsyncFor, ast.AsyncWith, ast.Await, ast.Div)
 
 
@@ -84,3 +89,27 @@ class Form(unittest.TestCase):
                     if isinstance(node, ast.Constant):
                         self.assertNotIsInstance(node.value, (float, complex))
                         self.assertNotIn("%", str(node.value))
+
+    def test_methods_of_classes(self):
+        for path in sources():
+            for made in nodes_of(path):
+                if isinstance(made, ast.ClassDef):
+                    self.assertEqual(made.decorator_list, [])
+                    methods = [node for node in made.body if isinstance(node, ast.FunctionDef)]
+                    names = [method.name for method in methods]
+                    with self.subTest(path.name, made=made.name):
+                        self.assertEqual(len(names), len(set(names)))
+                        self.assertLessEqual({name for name in names if name.startswith("__")}, OWN_METHODS)
+                        self.assertTrue("__getitem__" not in names or "__iter__" in names)
+                        for method in methods:
+                            self.assertLessEqual({ast.unparse(node) for node in method.decorator_list},
+                                                 DECORATORS)
+
+    def test_only_methods_have_decorators(self):
+        for path in sources():
+            tree = ast.parse(path.read_text(encoding="utf-8"))
+            for node in tree.body:
+                if isinstance(node, ast.FunctionDef):
+                    with self.subTest(path.name, function=node.name):
+                        self.assertEqual(node.decorator_list, [])
+                        self.assertFalse(node.name.startswith("__"))

@@ -4,7 +4,7 @@ import copy
 import inspect
 import unittest
 
-from braceloops import far, finest, occurrences, order, rows, sizes, steps
+from braceloops import far, finest, occurrences, order, rows, sizes, steps, texts
 
 INTERFACE = {
     rows: {
@@ -36,6 +36,7 @@ INTERFACE = {
         "count_of": ["product", "word"], "nth_place": ["product", "word", "index"],
         "places": ["product", "word"], "has_double": ["product"], "double": ["product"],
     },
+    texts: {"expand": ["text"], "parse_product": ["text"], "format_product": ["product"]},
 }
 PAIRS = (("a", "b"), ("c", "d"))
 LETTERS = (("x", "", "x"), ("x", ""))
@@ -74,6 +75,9 @@ CALLS = [
     (occurrences.places, {"product": LETTERS, "word": "x"}, [1, 2, 5]),
     (occurrences.has_double, {"product": LETTERS}, True),
     (occurrences.double, {"product": (("a", "", "b"), ("", "a"))}, (0, 3)),
+    (texts.expand, {"text": "{a,b}{c,d}"}, WORDS),
+    (texts.parse_product, {"text": "{a,b}{c,d}"}, PAIRS),
+    (texts.format_product, {"product": PAIRS}, "{a,b}{c,d}"),
 ]
 
 

@@ -7,18 +7,11 @@ from braceloops.far import nth_word
 from braceloops.order import first_drop, is_ascending, place_of
 from tests.helpers import (
     EMPTY_WORDS, LARGE, LARGE_COUNT, LARGE_ROW, WRONG_PRODUCTS, WRONG_WORDS, ErrorCase, changed,
-    coded, nested_loops, random_product, recut,
+    coded, nested_loops, plain_drop, random_product, recut,
 )
 
 PAIRS = (("a", "b"), ("c", "d"))
 OTHER_WORDS = ["", "a", "x", "xx", "xxx", "xxxx", "y", "yx", "zz"]
-
-
-def plain_drop(words):
-    for at in range(1, len(words)):
-        if not words[at] > words[at - 1]:
-            return at
-    return None
 
 
 def ascending_product(chance):
